@@ -1,0 +1,65 @@
+"""Values of all kinds, to be passed where something else is expected."""
+
+import toldwithin.errors as errors
+from toldwithin.grids import Grid
+from toldwithin.ratios import Ratio
+
+BOOLS = [True, False]
+
+
+def plain_things():
+    """Values of built-in kinds that are no integer, no bool, no string, no list and no tuple."""
+    return [
+        None,
+        b"",
+        b"a",
+        bytearray(b"ab"),
+        memoryview(b"ab"),
+        {},
+        {"a": 1},
+        {0: "a", 1: "b"},
+        range(2),
+        slice(1),
+        Ellipsis,
+        NotImplemented,
+        object(),
+        int,
+        len,
+        lambda: 1,
+        iter([1, 2]),
+        ValueError("a"),
+    ]
+
+
+def own_things():
+    """Objects of classes of the interface that are no Ratio."""
+    return [Grid([("kind", ["red", "blue"])]), errors.NoRatio("top"), errors.NoCell()]
+
+
+def not_sequences():
+    return [*plain_things(), *own_things(), *BOOLS, 0, 1, "", "a", "ab", Ratio(1)]
+
+
+def not_strings():
+    return [*plain_things(), *own_things(), *BOOLS, 0, 1, [], ["a"], (), ("a",), [["a"]], Ratio(1)]
+
+
+def not_numbers():
+    return [*plain_things(), *own_things(), *BOOLS, "", "1", "1/2", [], [1], (), (1, 2)]
+
+
+def not_integers():
+    return [*not_numbers(), Ratio(1), Ratio(1, 2)]
+
+
+def words_that_are_no_names():
+    return ["", "sum", "each", "a2345678x", "abcdefghi", "A", "aB", "Red", "1", "1a", "0", "a b", " a", "a ", "a_",
+            "_a", "a-b", "a.", "a\n", "-a", "a=b"]
+
+
+def names():
+    return ["a", "z", "a0", "z9", "abcdefgh", "a1234567", "sums", "su", "eac", "eachs", "summe", "m", "nine"]
+
+
+def not_names():
+    return [*words_that_are_no_names(), *not_strings()]

@@ -1,0 +1,1 @@
+"""A changing book of amounts, read with bounded errors."""
