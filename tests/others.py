@@ -2,7 +2,9 @@
 
 import toldwithin.errors as errors
 from toldwithin.grids import Grid
+from toldwithin.questions import Listed, Question
 from toldwithin.ratios import Ratio
+from toldwithin.trees import Expression
 
 BOOLS = [True, False]
 
@@ -33,7 +35,16 @@ def plain_things():
 
 def own_things():
     """Objects of classes of the interface that are no Ratio."""
-    return [Grid([("kind", ["red", "blue"])]), errors.NoRatio("top"), errors.NoCell()]
+    grid = Grid([("kind", ["red", "blue"])])
+    question = Question(grid, (1, 0))
+    return [
+        grid,
+        question,
+        Listed("kind", [question, question]),
+        Expression("name", ["a"]),
+        errors.NoRatio("top"),
+        errors.NoCell(),
+    ]
 
 
 def not_sequences():
