@@ -6,7 +6,7 @@ from toldwithin.trees import Expression
 
 SIGNS = ("+", "-", "*", "/", "(", ")", "=", "|", ",")
 SUMS = ("plus", "minus")
-PRODUCTS = ("times", "over")
+SUMS_AND_PRODUCTS = ("plus", "minus", "times", "over")
 SIGN_OF = {"plus": "+", "minus": "-", "times": "*", "over": "/"}
 KIND_OF = {"+": "plus", "-": "minus", "*": "times", "/": "over"}
 
@@ -190,7 +190,7 @@ def show(expression):
         shown = [parts[0], *shown_pairs(parts[1])]
         return f"each({shown_list(shown)})"
     if kind == "negated":
-        return f"-{shown_within(parts[0], (*SUMS, *PRODUCTS))}"
+        return f"-{shown_within(parts[0], SUMS_AND_PRODUCTS)}"
     return shown_joined(kind, parts[0], parts[1])
 
 
@@ -198,7 +198,7 @@ def shown_joined(kind, one, two):
     if kind in SUMS:
         left, right = show(one), shown_within(two, SUMS)
     else:
-        left, right = shown_within(one, SUMS), shown_within(two, (*SUMS, *PRODUCTS))
+        left, right = shown_within(one, SUMS), shown_within(two, SUMS_AND_PRODUCTS)
     return f"{left} {SIGN_OF[kind]} {right}"
 
 
