@@ -1,6 +1,7 @@
 """Checks the files of the package against those rules of the language that can be seen mechanically.
 
-Usage: python3 .ci/rules.py FOLDER. The rules are L1, L2, L4 to L8, L10, L14 to L17, L20 and L25, in part.
+Usage: python3 .ci/rules.py FOLDER. The rules are L1, L2, L4 to L8, L10, L14 to L17, L20, L26 and L27, in part. An
+import that its file does not use is told as well.
 """
 
 import ast
@@ -27,6 +28,12 @@ WORDS = {
     "type", "typing", "typing_extensions", "enum", "Enum", "IntEnum", "StrEnum", "Flag", "IntFlag", "Generic",
     "Protocol", "ABC", "ABCMeta", "namedtuple", "NamedTuple", "TypedDict", "TYPE_CHECKING", "abstractmethod",
 }
+# Methods and attributes of builtin values, and those of these names that a method or an attribute may have (L26).
+BUILTIN_NAMES = {name for kind in (str, int, list, dict, set, bytes, tuple) for name in dir(kind) if name[:2] != "__"}
+FREE_METHODS = set("add discard append clear copy count endswith extend find get index insert items join keys".split())
+FREE_ATTRIBUTES = set("count index title find get join lower upper split strip copy add".split())
+# What makes a number or a string of anything, so that its result has an order of Python's own.
+PLAIN_CALLS = {"len", "int", "ord", "str", "repr"}
 
 
 class Check:
@@ -112,14 +119,57 @@ class Check:
         if isinstance(node, ast.ExceptHandler) and node.type is None:
             self.wrong(node.lineno, "L6", "an except without a name")
 
+    def order(self, node):
+        """Objects with an order are not sorted or compared by sorted, min and max (L5)."""
+        if not isinstance(node.func, ast.Name) or node.func.id not in {"sorted", "min", "max"}:
+            return
+        keys = {word.value.id for word in node.keywords if word.arg == "key" and isinstance(word.value, ast.Name)}
+        if not keys & {"len", "int", "str"} and not any(is_plain(told) for told in node.args):
+            self.wrong(node.lineno, "L5", f"{node.func.id} of what may be objects with an order")
+
+    def names(self, node):
+        methods = [part for part in node.body if isinstance(part, ast.FunctionDef)]
+        for method in methods:
+            if method.name in BUILTIN_NAMES - FREE_METHODS:
+                self.wrong(method.lineno, "L26", f"a method {method.name}")
+            for part in ast.walk(method):
+                stored = isinstance(part, ast.Attribute) and isinstance(part.ctx, ast.Store)
+                if stored and part.attr in BUILTIN_NAMES - FREE_ATTRIBUTES:
+                    self.wrong(part.lineno, "L26", f"an attribute {part.attr}")
+
+    def unused(self):
+        used = {part.id for part in ast.walk(self.tree) if isinstance(part, ast.Name)}
+        for node in self.tree.body:
+            if isinstance(node, ast.ImportFrom) and node.module != "__future__":
+                for alias in node.names:
+                    if alias.name not in used:
+                        self.wrong(node.lineno, "import", f"{alias.name} is not used")
+
     def all(self):
         self.lines()
+        self.unused()
         bound = self.module_level()
         for node in ast.walk(self.tree):
             self.node(node)
+            if isinstance(node, ast.Call):
+                self.order(node)
+            if isinstance(node, ast.ClassDef):
+                self.names(node)
+            # The package has classes with an equality, so any, all and the like take lists.
+            if isinstance(node, ast.GeneratorExp):
+                self.wrong(node.lineno, "L7", "a generator expression")
             if isinstance(node, ast.FunctionDef):
                 self.function(node, bound)
         return self.found
+
+
+def is_plain(node):
+    """Whether this is plainly a number or a string, or a list of such."""
+    if isinstance(node, ast.Constant):
+        return True
+    if isinstance(node, ast.ListComp):
+        return is_plain(node.elt)
+    return isinstance(node, ast.Call) and isinstance(node.func, ast.Name) and node.func.id in PLAIN_CALLS
 
 
 def bound_names(node):

@@ -1,7 +1,10 @@
 """Values of all kinds, to be passed where something else is expected."""
 
 import toldwithin.errors as errors
+from toldwithin.books import Book
+from toldwithin.entries import Exact, Planned, Reading, Rough
 from toldwithin.grids import Grid
+from toldwithin.histories import History
 from toldwithin.questions import Listed, Question
 from toldwithin.ratios import Ratio
 from toldwithin.trees import Expression
@@ -44,6 +47,21 @@ def own_things():
         Expression("name", ["a"]),
         errors.NoRatio("top"),
         errors.NoCell(),
+        *entries_of(grid),
+        Book(grid),
+        Book(grid, entries_of(grid)),
+        History((1, 2), {"a": 1}),
+    ]
+
+
+def entries_of(grid):
+    """One entry of each kind, for a grid of two cells."""
+    question = Question(grid, (1, 0))
+    return [
+        Reading(1, "a", question, 5, 1),
+        Planned(2, "b", question, 1),
+        Exact(3, "c", grid, (1, 2)),
+        Rough(4, "d", grid, 0, 1, 1),
     ]
 
 

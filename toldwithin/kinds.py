@@ -12,6 +12,10 @@ def is_integer(found):
     return isinstance(found, int) and not isinstance(found, bool)
 
 
+def is_flag(found):
+    return found is True or found is False
+
+
 def is_sequence(found):
     return isinstance(found, (list, tuple))
 

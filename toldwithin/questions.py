@@ -3,7 +3,8 @@
 from toldwithin.errors import NoAmounts, NoAxis, NoQuestion, OtherGrid
 from toldwithin.grids import Grid, place_of_axis, region_beside
 from toldwithin.kinds import is_sequence
-from toldwithin.ratios import Ratio, as_ratio, is_number
+from toldwithin.ratios import as_ratio, is_number
+from toldwithin.sums import sum_of_products
 
 
 class Question:
@@ -50,7 +51,7 @@ class Question:
         """The answer for amounts of the grid."""
         if not are_amounts(self.grid, amounts):
             raise NoAmounts()
-        return sum([weight * amount for weight, amount in zip(self.weights, amounts)], start=Ratio(0))
+        return sum_of_products(self.weights, [as_ratio(amount) for amount in amounts])
 
     def is_nothing(self):
         return all([weight == 0 for weight in self.weights])
