@@ -5,8 +5,10 @@ from toldwithin.books import Book
 from toldwithin.entries import Exact, Planned, Reading, Rough
 from toldwithin.grids import Grid
 from toldwithin.histories import History
+from toldwithin.promises import Doubt, Promise
 from toldwithin.questions import Listed, Question
 from toldwithin.ratios import Ratio
+from toldwithin.stretches import End
 from toldwithin.trees import Expression
 
 BOOLS = [True, False]
@@ -51,6 +53,12 @@ def own_things():
         Book(grid),
         Book(grid, entries_of(grid)),
         History((1, 2), {"a": 1}),
+        Promise(1, {"a": 1}),
+        Promise(None, None),
+        Doubt(7, History((1, 2), {"a": 1})),
+        Doubt([], "a"),
+        End(1, {"a": 1}, History((1, 2), {"a": 1})),
+        End({}, [], ()),
     ]
 
 
@@ -63,6 +71,24 @@ def entries_of(grid):
         Exact(3, "c", grid, (1, 2)),
         Rough(4, "d", grid, 0, 1, 1),
     ]
+
+
+def anything():
+    """Values of all kinds, to be passed where it is asked whether something is so."""
+    nested = []
+    for _ in range(24):
+        nested = [nested]
+    return [
+        *plain_things(), *own_things(), *BOOLS, 0, 1, -1, 10 ** 999, "", "a", "x", [], [1], (), (1, 2), [("x", 1)], nested,
+        Ratio(0), Ratio(1), Ratio(-1, 2), {"x": nested}, {nested_tuple(): 1}, {None: 1}, {b"x": 1}, {1: 1}, {"": 1},
+    ]
+
+
+def nested_tuple():
+    nested = ()
+    for _ in range(24):
+        nested = (nested,)
+    return nested
 
 
 def not_sequences():

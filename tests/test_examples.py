@@ -5,12 +5,16 @@ import pathlib
 import unittest
 
 from toldwithin.books import Book
-from toldwithin.entries import Exact, Reading, Rough
+from toldwithin.clashes import check_clash, clash_of, excuses, surely_wrong
+from toldwithin.entries import Exact, Planned, Reading, Rough
 from toldwithin.errors import BadText
 from toldwithin.grids import Grid
 from toldwithin.histories import History, explains, misfits
+from toldwithin.moments import course_of, roughness
 from toldwithin.parsing import parse, show
-from toldwithin.questions import each_of, sum_of
+from toldwithin.promises import check_promise, least_error, promise_of
+from toldwithin.questions import Question, each_of, sum_of
+from toldwithin.stretches import estimate, stretch
 
 
 def texts(numbers):
@@ -43,6 +47,43 @@ class ExamplesTest(unittest.TestCase):
         one = History((6, 5), {"leak": -1})
         self.assertEqual([texts(one.at(book, 2)), texts(one.at(book)), explains(book, one)], [["3", "5"], ["3", "9"], True])
         self.assertEqual(misfits(book, History((6, 6), {"leak": 2})), ["count", "leak"])
+
+    def test_promises(self):
+        grid = Grid([("kind", ["red", "blue"])])
+        red, blue = Question(grid, (1, 0)), Question(grid, (0, 1))
+        entries = [Planned(1, "all", red + blue, 1), Rough(2, "leak", grid, 0, 0, 3), Planned(4, "eye", red, 2)]
+        book = Book(grid, entries)
+        found = [least_error(book, red).text(), least_error(book, blue).text(), least_error(book, red, at=1).text()]
+        self.assertEqual(found, ["2", "6", "5"])
+        self.assertIs(check_promise(book, blue, promise_of(book, blue)), True)
+
+    def test_stretches(self):
+        grid = Grid([("kind", ["red", "blue"])])
+        red, blue = Question(grid, (1, 0)), Question(grid, (0, 1))
+        entries = [Reading(1, "all", red + blue, 10, 1), Rough(2, "leak", grid, 0, -2, 1), Reading(4, "eye", red, 3, 2)]
+        book = Book(grid, entries)
+        found = [texts(stretch(book, red)), texts(stretch(book, blue)), stretch(book.upto(2), red)]
+        self.assertEqual(found, [["1", "5"], ["1", "9"], None])
+        found = [estimate(book, red + blue).text(), texts(stretch(book, red + blue, at=0))]
+        self.assertEqual(found, ["8", ["9", "11"]])
+
+    def test_clashes(self):
+        grid = Grid([("kind", ["red"])])
+        red = sum_of(grid, [])
+        book = Book(grid, [Reading(1, "x", red, 5, 1), Reading(2, "y", red, 6, 1), Reading(3, "z", red, 9, 1)])
+        found = [check_clash(book, clash_of(book)), check_clash(book, {"x": 1, "z": -1})]
+        self.assertEqual(found, [True, True])
+        self.assertEqual([excuses(book, 2), surely_wrong(book, 1)], [[("z",), ("x", "y")], ["z"]])
+
+    def test_moments(self):
+        grid = Grid([("kind", ["red"])])
+        red = sum_of(grid, [])
+        book = Book(grid, [Reading(1, "x", red, 5, 2), Rough(2, "leak", grid, 0, -1, 1), Reading(3, "y", red, 2, 0)])
+        found = [(time, texts(then), texts(now)) for time, then, now in course_of(book, red)]
+        self.assertEqual(found, [
+            (1, ["3", "7"], ["3", "4"]), (2, ["1", "7"], ["2", "2"]), (3, ["2", "2"], ["2", "2"]),
+        ])
+        self.assertEqual(roughness(book, red * -3, 3, 0).text(), "3")
 
 
 class ReadmeTest(unittest.TestCase):
