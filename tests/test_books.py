@@ -260,6 +260,7 @@ class StepTest(BookCase):
         self.assertEqual(self.book.last(), 10 ** 40)
         self.assertEqual(self.book.upto(7).last(), 5)
         self.assertEqual(Book(GRID, [exact(-7, "x"), exact(-9, "y")]).last(), -7)
+        self.assertEqual(Book(GRID, [exact(-7, "x")]).last(), -7)
         self.assertIsNone(Book(GRID).last())
 
 

@@ -110,7 +110,8 @@ class CourseTest(unittest.TestCase):
         self.assertEqual(course_of(Book(GRID), RED), [])
 
     def test_clashes(self):
-        for book in (late_clash(), early_clash()):
+        alone = Book(GRID, [Reading(1, "x", nothing_of(GRID), 5, 1)])
+        for book in (late_clash(), early_clash(), alone):
             for question in (RED, BLUE, nothing_of(GRID)):
                 with self.assertRaises(Clash):
                     course_of(book, question)

@@ -6,14 +6,13 @@ from toldwithin.entries import Reading, Rough
 from toldwithin.errors import NoName, NoTime
 from toldwithin.frames import told_frame
 from toldwithin.kinds import is_integer
-from toldwithin.stretches import bare_stretch, check_no_clash, moved, stretch
+from toldwithin.stretches import bare_stretch, moved, stretch
 from toldwithin.sums import sum_of_products
 
 
 def known_then(book, question, time):
     """The stretch of a question at the moment of a time by the entries up to it."""
     check_question(book, question)
-    check_times(time)
     return stretch(book.upto(time), question, at=time)
 
 
@@ -26,7 +25,6 @@ def course_of(book, question):
     """For the time of each entry: the stretch of a question there, as it was known then, and as it is now."""
     check_question(book, question)
     frame = told_frame(book)
-    check_no_clash(frame)
     known = no_change(book)
     then_by, now_by, course = {}, {}, []
     for place, entry in enumerate(book.entries):
