@@ -1,12 +1,14 @@
 """Checks the files of the package against those rules of the language that can be seen mechanically.
 
-Usage: python3 .ci/rules.py FOLDER. The rules are L1, L2, L4 to L8, L10, L14 to L17, L20, L26 and L27, in part. An
-import that its file does not use is told as well.
+Usage: python3 .ci/rules.py FOLDER. The rules are L1, L2, L4 to L8, L10, L14 to L18, L20 and L25 to L27, in part.
+An import that its file does not use is told as well. What operators and properties run (L5) is looked at in operators.py.
 """
 
 import ast
 import pathlib
 import sys
+
+from operators import wrong_operators
 
 LIBRARY = {
     "heapq": {"heappush", "heappop", "heapify", "heapreplace", "heappushpop"},
@@ -32,6 +34,12 @@ WORDS = {
 BUILTIN_NAMES = {name for kind in (str, int, list, dict, set, bytes, tuple) for name in dir(kind) if name[:2] != "__"}
 FREE_METHODS = set("add discard append clear copy count endswith extend find get index insert items join keys".split())
 FREE_ATTRIBUTES = set("count index title find get join lower upper split strip copy add".split())
+# The methods of builtin values that may be called (L25).
+CALLED_METHODS = set(
+    "append clear copy count endswith extend find get index insert isalnum isalpha isdigit islower isspace isupper items "
+    "join keys ljust lower lstrip partition pop remove replace reverse rfind rjust rpartition rsplit rstrip setdefault "
+    "split splitlines startswith strip update upper values zfill bit_length removeprefix removesuffix isascii".split()
+)
 # What makes a number or a string of anything, so that its result has an order of Python's own.
 PLAIN_CALLS = {"len", "int", "ord", "str", "repr"}
 
@@ -163,6 +171,24 @@ class Check:
         return self.found
 
 
+def wrong_names(trees):
+    """Names that are a method and an attribute (L18), and called methods that nothing may have (L25)."""
+    methods, attributes, called = set(), {}, {}
+    for path, tree in trees:
+        for node in ast.walk(tree):
+            if isinstance(node, ast.ClassDef):
+                methods.update(part.name for part in node.body if isinstance(part, ast.FunctionDef))
+            if isinstance(node, ast.Attribute) and isinstance(node.ctx, ast.Store):
+                attributes[node.attr] = f"{path}:{node.lineno}"
+            if isinstance(node, ast.Call) and isinstance(node.func, ast.Attribute):
+                called[node.func.attr] = f"{path}:{node.lineno}"
+    found = [f"{attributes[name]}: L18: {name} is a method, too" for name in sorted(methods & set(attributes))]
+    found += [
+        f"{called[name]}: L25: calls {name}" for name in sorted(called) if name not in methods | CALLED_METHODS
+    ]
+    return found
+
+
 def is_plain(node):
     """Whether this is plainly a number or a string, or a list of such."""
     if isinstance(node, ast.Constant):
@@ -185,12 +211,17 @@ def bound_names(node):
 def main():
     folder = pathlib.Path(sys.argv[1])
     found = []
+    trees = []
     for path in sorted(folder.rglob("*")):
         if path.is_file() and "__pycache__" not in path.parts:
             if path.suffix == ".py":
-                found.extend(Check(folder.name, path).all())
+                check = Check(folder.name, path)
+                trees.append((path, check.tree))
+                found.extend(check.all())
             else:
                 found.append(f"{path}: L1: the folder contains nothing but .py files")
+    found.extend(wrong_names(trees))
+    found.extend(wrong_operators(trees))
     for line in found:
         print(line)
     sys.exit(1 if found else 0)

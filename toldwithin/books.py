@@ -44,11 +44,12 @@ class Book:
         return found
 
     def __add__(self, other):
-        return self.add(other)
+        # Not by the method: for an operator a call of that name counts as a change.
+        return longer(self, other)
 
     def add(self, entry):
         """The book with one entry more."""
-        return Book(self.grid, [*self.entries, entry])
+        return longer(self, entry)
 
     def without(self, name):
         """The book without the entry of this name."""
@@ -68,6 +69,11 @@ class Book:
     def last(self):
         """The greatest time, or None without entries."""
         return self.entries[-1].time if len(self.entries) > 0 else None
+
+
+def longer(book, entry):
+    """The book with one entry more."""
+    return Book(book.grid, [*book.entries, entry])
 
 
 def check_unlike(entries):

@@ -11,16 +11,16 @@ class Combination:
     """The looks of a combination with their weights."""
 
     def __init__(self, book, weights):
-        self.book = book
+        self.source = book
         self.looks = [book[name] for name in weights]
         self.weights = [as_ratio(weights[name]) for name in weights]
 
     def left_of(self, question, at):
         """The row of a question at a moment, less each look's row times its weight."""
-        rows = [numbers_of(self.book, look.question, look.time) for look in self.looks]
+        rows = [numbers_of(self.source, look.question, look.time) for look in self.looks]
         tops, bottom = over_one(self.weights)
         left = []
-        for place, number in enumerate(numbers_of(self.book, question, at)):
+        for place, number in enumerate(numbers_of(self.source, question, at)):
             other_tops, other_bottom = over_one([row[place] for row in rows])
             left.append(number - Ratio(dot(tops, other_tops), bottom * other_bottom))
         return left
@@ -28,18 +28,18 @@ class Combination:
     def price(self, question, at):
         """The price for a question at a moment; None if the combination does not make the question."""
         left = self.left_of(question, at)
-        size = self.book.grid.size
+        size = self.source.grid.size
         if not all([number == 0 for number in left[:size]]):
             return None
         slips = [look.slip for look in self.looks]
-        bounds = [deed.bound for deed in rough_deeds_of(self.book)]
+        bounds = [deed.bound for deed in rough_deeds_of(self.source)]
         return sum_of_products([abs(number) for number in [*self.weights, *left[size:]]], [*slips, *bounds])
 
     def told_center(self, question, at):
         """The center for a question at a moment, if all looks are readings."""
-        values = bare_values(self.book)
+        values = bare_values(self.source)
         told = sum_of_products(self.weights, [values[look.name] for look in self.looks])
-        return told + question.at(known_up_to(self.book, at))
+        return told + question.at(known_up_to(self.source, at))
 
 
 def is_combination(looks, found):

@@ -29,7 +29,7 @@ class Frame:
     """
 
     def __init__(self, book, spans):
-        self.book = book
+        self.source = book
         self.spans = spans
         self.rows = [Row(span.numbers) for span in spans]
         width = book.grid.size + len(rough_deeds_of(book))
@@ -90,7 +90,7 @@ class Search:
         """A history that has the highest answer."""
         bottom = self.outcome.unit * self.frame.steps.unit * self.frame.scale
         numbers = [Ratio(part, bottom) for part in self.frame.steps.point_of(self.outcome.point)]
-        deeds = rough_deeds_of(self.frame.book)
+        deeds = rough_deeds_of(self.frame.source)
         many = len(numbers) - len(deeds)
         return History(numbers[:many], {deed.name: extra for deed, extra in zip(deeds, numbers[many:])})
 

@@ -51,12 +51,12 @@ def moved(pair, number):
 
 def searches(frame, question, at):
     """The searches for the highest answers of the opposite question and of a question; None if it is endless."""
-    high = Search(frame, row_of(frame.book, question, at), {})
+    high = Search(frame, row_of(frame.source, question, at), {})
     if high.is_clash:
         raise Clash()
     if high.is_endless:
         return None
-    return Search(frame, row_of(frame.book, -question, at), high.outcome.basis), high
+    return Search(frame, row_of(frame.source, -question, at), high.outcome.basis), high
 
 
 def center_of(book, question, weights, *, at=None):
