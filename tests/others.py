@@ -2,12 +2,14 @@
 
 import toldwithin.errors as errors
 from toldwithin.books import Book
+from toldwithin.buying import Goal, Offer
 from toldwithin.entries import Exact, Planned, Reading, Rough
 from toldwithin.grids import Grid
 from toldwithin.histories import History
 from toldwithin.promises import Doubt, Promise
 from toldwithin.questions import Listed, Question
 from toldwithin.ratios import Ratio
+from toldwithin.stores import Store
 from toldwithin.stretches import End
 from toldwithin.trees import Expression
 
@@ -59,6 +61,9 @@ def own_things():
         Doubt([], "a"),
         End(1, {"a": 1}, History((1, 2), {"a": 1})),
         End({}, [], ()),
+        Offer("a", question, 1, 1),
+        Goal(question, 1),
+        Store(Book(grid)),
     ]
 
 

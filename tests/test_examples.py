@@ -5,6 +5,7 @@ import pathlib
 import unittest
 
 from toldwithin.books import Book
+from toldwithin.buying import Goal, Offer, cheapest
 from toldwithin.clashes import check_clash, clash_of, excuses, surely_wrong
 from toldwithin.entries import Exact, Planned, Reading, Rough
 from toldwithin.errors import BadText
@@ -14,7 +15,9 @@ from toldwithin.moments import course_of, roughness
 from toldwithin.parsing import parse, show
 from toldwithin.promises import check_promise, least_error, promise_of
 from toldwithin.questions import Question, each_of, sum_of
+from toldwithin.stores import Store
 from toldwithin.stretches import estimate, stretch
+from toldwithin.worth import gain, useless
 
 
 def texts(numbers):
@@ -84,6 +87,27 @@ class ExamplesTest(unittest.TestCase):
             (1, ["3", "7"], ["3", "4"]), (2, ["1", "7"], ["2", "2"]), (3, ["2", "2"], ["2", "2"]),
         ])
         self.assertEqual(roughness(book, red * -3, 3, 0).text(), "3")
+
+    def test_worth_and_buying(self):
+        grid = Grid([("kind", ["red", "blue"])])
+        red, blue = Question(grid, (1, 0)), Question(grid, (0, 1))
+        book = Book(grid, [Planned(1, "all", red + blue, 1)])
+        offers = [Offer("eye", red, 2, 5), Offer("ear", red, 4, 3), Offer("both", red - blue, 1, 6)]
+        found = [cheapest(book, offers, [Goal(blue, error)]) for error in (3, 1, 0)]
+        self.assertEqual(found, [(5, ("eye",)), (6, ("both",)), None])
+        more = book.add(Planned(2, "eye", red, 2)).add(Planned(3, "pair", red + blue, 3))
+        found = [number if number is None else number.text() for number in gain(more, "eye", blue)]
+        self.assertEqual([useless(more, "pair"), useless(more, "eye"), found], [True, False, [None, "3"]])
+
+    def test_stores(self):
+        grid = Grid([("kind", ["red"])])
+        red = sum_of(grid, [])
+        store = Store(Book(grid, [Reading(1, "x", red, 5, 2)]))
+        self.assertEqual(texts(store.keep("now", red)), ["3", "7"])
+        entries = [Exact(2, "buy", grid, [4]), Rough(3, "leak", grid, 0, 0, 1), Reading(4, "y", red, 9, 1)]
+        self.assertEqual([store.add(entry) for entry in entries], [{"now": "moved"}, {"now": "wider"}, {"now": "narrower"}])
+        found = [texts(store.answer("now")), store.back(), texts(store.answer("now")), store.many()]
+        self.assertEqual(found, [["8", "10"], None, ["6", "12"], 3])
 
 
 class ReadmeTest(unittest.TestCase):

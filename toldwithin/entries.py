@@ -4,7 +4,7 @@ from toldwithin.errors import NoEntry
 from toldwithin.grids import Grid
 from toldwithin.kinds import is_integer, is_name
 from toldwithin.questions import Question, are_amounts
-from toldwithin.ratios import as_ratio, is_number
+from toldwithin.ratios import as_ratio, is_number, is_reach
 
 
 class Reading:
@@ -114,7 +114,7 @@ def check_number(found, word):
 
 
 def check_reach(found, word):
-    if not is_number(found) or found < 0:
+    if not is_reach(found):
         raise NoEntry(word)
 
 

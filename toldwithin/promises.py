@@ -6,7 +6,7 @@ from toldwithin.drifts import drift
 from toldwithin.errors import NoWeights
 from toldwithin.frames import Search, blind_frame
 from toldwithin.histories import History, is_of, is_within
-from toldwithin.ratios import is_number
+from toldwithin.ratios import is_number, is_reach
 from toldwithin.rows import Held, extra_of, row_of
 
 
@@ -99,7 +99,7 @@ def check_doubt(book, question, candidate, *, at=None):
         return False
     if candidate.error is None:
         return is_way_out(book, question, candidate.history, at)
-    return is_number(candidate.error) and candidate.error >= 0 and does_reach(book, question, candidate, at)
+    return is_reach(candidate.error) and does_reach(book, question, candidate, at)
 
 
 def is_way_out(book, question, history, at):
@@ -113,15 +113,17 @@ def is_way_out(book, question, history, at):
 
 def does_reach(book, question, doubt, at):
     """Whether the history of a doubt, hidden from all looks, changes the answer of a question by its error."""
-    history = doubt.history
+    held = Held(book, doubt.history)
+    return is_hidden(book, doubt.history, held) and held.answer(row_of(book, question, at)) == doubt.error
+
+
+def is_hidden(book, history, held):
+    """Whether the extras are within the bounds, and the answers of all looks differ from 0 by at most their slips."""
     if not all([is_within(extra_of(history, deed), deed.bound) for deed in rough_deeds_of(book)]):
         return False
-    held = Held(book, history)
-    return is_hidden(book, held) and held.answer(row_of(book, question, at)) == doubt.error
+    return all([is_hidden_from(book, look, look.time, held) for look in looks_of(book)])
 
 
-def is_hidden(book, held):
-    """Whether the answers of all looks differ from 0 by at most their slips."""
-    looks = looks_of(book)
-    rows = [row_of(book, look.question, look.time) for look in looks]
-    return all([held.is_answer_between(row, -look.slip, look.slip) for row, look in zip(rows, looks)])
+def is_hidden_from(book, look, at, held):
+    """Whether the answer of the question of a look, or of an offer, at a moment differs from 0 by at most its slip."""
+    return held.is_answer_between(row_of(book, look.question, at), -look.slip, look.slip)

@@ -111,6 +111,11 @@ def is_number(found):
     return isinstance(found, Ratio) or is_integer(found)
 
 
+def is_reach(found):
+    """Whether this is a number of at least 0."""
+    return is_number(found) and found >= 0
+
+
 def as_ratio(number):
     return number if isinstance(number, Ratio) else Ratio(number)
 

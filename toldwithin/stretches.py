@@ -32,7 +32,12 @@ def stretch(book, question, *, at=None):
     """The least and the greatest answer of a question at a moment; None if it is endless."""
     check_question(book, question)
     check_moment(at)
-    return moved(bare_stretch(told_frame(book), question, at), question.at(known_up_to(book, at)))
+    return stretch_in(told_frame(book), question, at)
+
+
+def stretch_in(frame, question, at):
+    """The stretch of a question at a moment of the book of a frame."""
+    return moved(bare_stretch(frame, question, at), question.at(known_up_to(frame.source, at)))
 
 
 def bare_stretch(frame, question, at):
