@@ -2,7 +2,9 @@
 
 import toldwithin.errors as errors
 from toldwithin.books import Book
+from toldwithin.branches import Conflict
 from toldwithin.buying import Goal, Offer
+from toldwithin.desk import Desk
 from toldwithin.entries import Exact, Planned, Reading, Rough
 from toldwithin.grids import Grid
 from toldwithin.histories import History
@@ -64,6 +66,8 @@ def own_things():
         Offer("a", question, 1, 1),
         Goal(question, 1),
         Store(Book(grid)),
+        Conflict("time", 7),
+        Desk(grid),
     ]
 
 

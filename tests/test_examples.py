@@ -5,10 +5,13 @@ import pathlib
 import unittest
 
 from toldwithin.books import Book
+from toldwithin.branches import check_cut, cut, cut_paper, merged
 from toldwithin.buying import Goal, Offer, cheapest
 from toldwithin.clashes import check_clash, clash_of, excuses, surely_wrong
+from toldwithin.desk import Desk
 from toldwithin.entries import Exact, Planned, Reading, Rough
 from toldwithin.errors import BadText
+from toldwithin.forgetting import enough, needless
 from toldwithin.grids import Grid
 from toldwithin.histories import History, explains, misfits
 from toldwithin.moments import course_of, roughness
@@ -108,6 +111,27 @@ class ExamplesTest(unittest.TestCase):
         self.assertEqual([store.add(entry) for entry in entries], [{"now": "moved"}, {"now": "wider"}, {"now": "narrower"}])
         found = [texts(store.answer("now")), store.back(), texts(store.answer("now")), store.many()]
         self.assertEqual(found, [["8", "10"], None, ["6", "12"], 3])
+
+    def test_branches_and_forgetting(self):
+        grid = Grid([("kind", ["red"])])
+        red = sum_of(grid, [])
+        base = Book(grid, [Reading(1, "x", red, 5, 1)])
+        one = base.add(Exact(2, "buy", grid, [10]))
+        other = base.add(Reading(3, "y", red, 5, 1))
+        whole = merged(base, one, other)
+        found = [whole.names(), cut(whole), check_cut(whole, cut(whole), cut_paper(whole)), cut(other)]
+        self.assertEqual(found, [["x", "buy", "y"], ("x",), True, ()])
+        found = [needless(other), enough(other, [red]), merged(base, one, base.add(Exact(2, "sell", grid, [-1]))).what]
+        self.assertEqual(found, [["x", "y"], ("x",), 2])
+
+    def test_the_desk(self):
+        desk = Desk(Grid([("kind", ["red", "blue"])]))
+        lines = ["let all sum()", "read 1 x 10 1 all", "branch old", "rough 2 leak 0 -2 1", "read 4 eye 3 2 sum(kind=red)"]
+        self.assertEqual(desk.tell_all(lines), ["ok"] * 5)
+        found = [desk.tell("ask each(kind)"), desk.tell("error sum(kind=blue)"), desk.tell("ask @1 2 * all")]
+        self.assertEqual(found, ["1 to 5; 1 to 9", "4", "18 to 22"])
+        lines = ["merge old", "branches", "undo", "needless", "excuses 1"]
+        self.assertEqual([desk.tell(line) for line in lines], ["ok", "main* old", "ok", "none", "nothing"])
 
 
 class ReadmeTest(unittest.TestCase):

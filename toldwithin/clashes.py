@@ -36,14 +36,21 @@ def excuses(book, most):
     clashes = []
     for many in range(most + 1):
         for chosen in choices(names, many):
-            # What holds a known excuse is none, and what leaves a known clash whole explains nothing.
-            if not has_one_within(found, chosen) and not has_one_beside(clashes, chosen):
-                clash = clash_of(without_all(book, chosen))
-                if clash is None:
-                    found.append(chosen)
-                else:
-                    clashes.append(tuple(clash))
+            # What holds a known excuse is none.
+            if not has_one_within(found, chosen) and is_free(book, chosen, clashes):
+                found.append(chosen)
     return found
+
+
+def is_free(book, left_out, clashes):
+    """Whether some history explains the book without these readings; if none does, a clash among them shows it."""
+    # A clash that is known already and is left whole saves the search.
+    if has_one_beside(clashes, left_out):
+        return False
+    clash = clash_of(without_all(book, left_out))
+    if clash is not None:
+        clashes.append(clash)
+    return clash is None
 
 
 def ascending_readings(book):
@@ -52,10 +59,12 @@ def ascending_readings(book):
 
 
 def has_one_within(lots, names):
+    """Whether all names of one of the lots are among these."""
     return any([all([name in names for name in lot]) for lot in lots])
 
 
 def has_one_beside(lots, names):
+    """Whether one of the lots has none of these names."""
     return any([not any([name in names for name in lot]) for lot in lots])
 
 

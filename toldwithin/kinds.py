@@ -44,6 +44,14 @@ def are_unlike_names(found):
     return are_names(found) and len(set(found)) == len(found)
 
 
+def is_integer_text(text):
+    """Whether a string is an integer in decimal digits: without leading zeros, and no -0."""
+    digits = text.removeprefix("-")
+    if digits == "" or not all([sign in DIGITS for sign in digits]):
+        return False
+    return text == "0" or digits[0] != "0"
+
+
 def is_figure(text):
     """Whether a string is 1 to 60 decimal digits without leading zeros."""
     # The length goes first: Python refuses to read very long rows of digits.

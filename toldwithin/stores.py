@@ -2,9 +2,8 @@
 
 from toldwithin.books import check_moment, check_question
 from toldwithin.errors import NoBook, NoName, NoUndo, TooMany
-from toldwithin.frames import told_frame
 from toldwithin.kinds import is_name, is_sequence
-from toldwithin.stretches import check_no_clash, stretch_in
+from toldwithin.stretches import frame_without_clash, stretch_in
 
 MOST_LABELS = 12
 
@@ -28,8 +27,7 @@ class Page:
 
 def page_of(book, kept):
     """The page of a book, with questions that were kept in another one."""
-    frame = told_frame(book)
-    check_no_clash(frame)
+    frame = frame_without_clash(book)
     return Page(frame, {label: Kept(frame, one.question, one.moment) for label, one in kept.items()})
 
 

@@ -142,16 +142,18 @@ def history_with(book, question, number, *, at=None):
     return search_for_any(Frame(book, [*spans_of_readings(book), wanted])).found_history()
 
 
-def check_no_clash(frame):
-    """Refuses a frame that has no history."""
+def frame_without_clash(book):
+    """The frame of what is told by a book that some history explains; other books are refused."""
+    frame = told_frame(book)
     if search_for_any(frame).is_clash:
         raise Clash()
+    return frame
 
 
 def drift_of(book, question):
     """Amounts that no reading sees and the question does; None if there are none."""
     check_question(book, question)
-    check_no_clash(told_frame(book))
+    frame_without_clash(book)
     return drift(readings_of(book), question)
 
 
