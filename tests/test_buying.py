@@ -422,7 +422,8 @@ class CheckTest(unittest.TestCase):
         self.assertTrue(self.check(None, found, goals))
         self.assertFalse(self.check(None, found[:-1], goals))
         self.assertFalse(self.check((0, ()), found, goals))
-        self.assertFalse(self.check((14, ("both", "ear", "eye")), found, goals))
+        for answer in [(14, ("both", "ear", "eye")), (14, ("eye", "ear", "both")), (3, ("nix",)), (99, ()), (-1, ())]:
+            self.assertFalse(self.check(answer, found, goals))
 
     def test_errors_go_ahead_of_the_answer(self):
         for other in anything():

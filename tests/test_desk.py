@@ -46,16 +46,21 @@ def seen(desk):
     return desk.book, answers
 
 
-def reach(desk, word):
-    """What is seen behind each step of undo, or of redo, on a desk that is told the journal of another one."""
-    other = desk_of(*desk.journal(), grid=desk.book.grid)
-    found = [seen(other)]
+def steps_of(desk, word):
+    """What is seen behind each step of undo, or of redo, as far as they go."""
+    found = []
     while True:
         try:
-            other.tell(word)
+            desk.tell(word)
         except (NoUndo, NoRedo):
             return found
-        found.append(seen(other))
+        found.append(seen(desk))
+
+
+def reach(desk, word):
+    """The same on a desk that is told the journal of another one, which stays as it is."""
+    other = desk_of(*desk.journal(), grid=desk.book.grid)
+    return [seen(other), *steps_of(other, word)]
 
 
 def whole(desk):
@@ -578,15 +583,10 @@ class TellAllTest(DeskCase):
             self.assertIs(type(caught.exception), BadLine)
             self.assertEqual((caught.exception.place, caught.exception.word), (place, word))
             self.assertEqual(whole(desk), state)
-            # Also what the desk itself can undo and do again, not only a new one that is told its journal.
-            steps = 0
-            while steps < 30:
-                try:
-                    desk.tell("undo")
-                except NoUndo:
-                    break
-                steps += 1
-            self.assertEqual(steps, len(state[1]) - 1)
+            # Also what the desk itself can do again and undo, not only a new one that is told its journal.
+            again, back = steps_of(desk, "redo"), steps_of(desk, "undo")
+            self.assertEqual(again, state[2][1:])
+            self.assertEqual(back, [*reversed(state[2][:-1]), *state[1][1:]])
 
     def test_a_line_that_raises(self):
         before = [*EXAMPLE, "let n 5", "undo"]

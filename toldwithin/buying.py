@@ -125,7 +125,7 @@ def in_their_order(offers):
         for choice in choices(names, many):
             cost = sum([offer.cost for offer in offers if offer.name in choice])
             by_cost.setdefault(cost, []).append(choice)
-    return [(cost, choice) for cost in sorted(list(by_cost), key=int) for choice in by_cost[cost]]
+    return [(total, lot) for total in sorted(list(by_cost), key=int) for lot in by_cost[total]]
 
 
 def shortfall(book, goals):

@@ -1,6 +1,5 @@
 """What a look is worth: what the others could do without it."""
 
-from toldwithin.books import check_moment, check_question
 from toldwithin.entries import is_look
 from toldwithin.errors import NoName
 from toldwithin.promises import least_error
@@ -23,6 +22,4 @@ def look_named(book, name):
 def gain(book, name, question, *, at=None):
     """The least errors of a question at a moment without a look, and with it."""
     look_named(book, name)
-    check_question(book, question)
-    check_moment(at)
     return least_error(book.without(name), question, at=at), least_error(book, question, at=at)
